@@ -1,0 +1,126 @@
+"""What several test files need: short ways to write tables, and a slow second opinion on them."""
+
+from fractions import Fraction
+from random import Random
+
+from wordworth.ratios import Ratio
+
+
+def ratio(number):
+    """The Ratio of an integer, a Fraction or a string such as "-3/2"."""
+    fraction = Fraction(number)
+    return Ratio(fraction.numerator, fraction.denominator)
+
+
+def row(*numbers):
+    return tuple(ratio(number) for number in numbers)
+
+
+def table(*rows):
+    return tuple(row(*numbers) for numbers in rows)
+
+
+def plain(numbers):
+    """A row as a list of Fractions."""
+    return [Fraction(number.top, number.bottom) for number in numbers]
+
+
+def plain_table(rows):
+    return [plain(numbers) for numbers in rows]
+
+
+def wide(seed, digits=2000):
+    """An integer of exactly so many digits, the same one for the same seed."""
+    return Random(seed).randrange(10 ** (digits - 1), 10 ** digits)
+
+
+def some_table(seed, height, width, zeros=0, most=9):
+    """A table that looks like chance but is the same for the same seed."""
+    chance = Random(seed)
+
+    def number():
+        if chance.randrange(100) < zeros:
+            return Ratio(0)
+        return Ratio(chance.randint(-most, most), chance.randint(1, most))
+
+    return tuple(tuple(number() for _ in range(width)) for _ in range(height))
+
+
+def product_of(one, other):
+    """The product of two lists of rows of Fractions, straight from its definition."""
+    width = len(other[0])
+    return [
+        [sum((line[k] * other[k][j] for k in range(len(other))), Fraction(0)) for j in range(width)]
+        for line in one
+    ]
+
+
+def reduced_of(rows):
+    """The reduced form of rows of Fractions, by the usual steps column after column."""
+    rows = [list(line) for line in rows]
+    done = 0
+    for column in range(len(rows[0]) if rows else 0):
+        found = [at for at in range(done, len(rows)) if rows[at][column] != 0]
+        if not found:
+            continue
+        rows[done], rows[found[0]] = rows[found[0]], rows[done]
+        first = rows[done][column]
+        rows[done] = [number / first for number in rows[done]]
+        for at in range(len(rows)):
+            if at != done and rows[at][column] != 0:
+                part = rows[at][column]
+                rows[at] = [mine - part * its for mine, its in zip(rows[at], rows[done])]
+        done += 1
+    return rows[:done]
+
+
+def shown(value):
+    """A short text of a value, for messages: of a long number only how long it is."""
+    if isinstance(value, (tuple, list)):
+        return "(" + " ".join(shown(item) for item in value) + ")"
+    if isinstance(value, (Ratio, Fraction)):
+        top, bottom = (value.top, value.bottom) if isinstance(value, Ratio) else value.as_integer_ratio()
+        bits = max(top.bit_length(), bottom.bit_length())
+        return f"{top}/{bottom}" if bits < 100 else f"<{bits} bits>"
+    return repr(value)
+
+
+def assert_same(test, found, wanted):
+    """Both are equal. Unlike assertEqual this does not compare the texts of very large tables if they are not."""
+    if found != wanted:
+        test.fail(f"{shown(found)[:500]} is not {shown(wanted)[:500]}")
+
+
+def assert_row(test, found):
+    """The found value is a row: a tuple of Ratios in lowest terms, with bottoms above 0."""
+    test.assertIs(type(found), tuple)
+    for number in found:
+        test.assertIs(type(number), Ratio)
+        test.assertIs(type(number.top), int)
+        test.assertIs(type(number.bottom), int)
+        test.assertGreater(number.bottom, 0)
+        fraction = Fraction(number.top, number.bottom)
+        test.assertEqual((fraction.numerator, fraction.denominator), (number.top, number.bottom))
+
+
+def assert_table(test, found):
+    """The found value is a table: a tuple of rows of one length."""
+    test.assertIs(type(found), tuple)
+    for line in found:
+        assert_row(test, line)
+    test.assertLessEqual(len({len(line) for line in found}), 1)
+
+
+def assert_reduced(test, found):
+    """The table is in reduced form, property by property as point 1.3 lists them."""
+    assert_table(test, found)
+    rows = plain_table(found)
+    leads = []
+    for line in rows:
+        test.assertTrue(any(line))
+        leads.append([at for at, number in enumerate(line) if number][0])
+        test.assertEqual(line[leads[-1]], 1)
+    test.assertEqual(leads, sorted(set(leads)))
+    for at, lead in enumerate(leads):
+        column = [line[lead] for line in rows]
+        test.assertEqual(column, [int(place == at) for place in range(len(rows))])

@@ -1,0 +1,66 @@
+"""Those rules of the language that are easy to look up in the files of the package."""
+
+import ast
+import builtins
+import pathlib
+import unittest
+
+PACKAGE = pathlib.Path(__file__).resolve().parent.parent / "wordworth"
+LIBRARY = {
+    "heapq": {"heapify", "heappop", "heappush", "heappushpop", "heapreplace"},
+    "math": {"comb", "factorial", "gcd", "isqrt", "lcm", "perm"},
+    "itertools": {
+        "accumulate", "chain", "combinations", "islice", "pairwise", "permutations", "product", "zip_longest",
+    },
+    "collections": {"defaultdict", "deque"},
+}
+
+
+class LanguageTest(unittest.TestCase):
+    def files(self):
+        return [(path, path.read_text(encoding="utf-8")) for path in sorted(PACKAGE.iterdir())]
+
+    def nodes(self, kinds):
+        return [node for _, text in self.files() for node in ast.walk(ast.parse(text)) if isinstance(node, kinds)]
+
+    def test_the_folder_holds_plain_python_files_alone(self):
+        for path, _ in self.files():
+            self.assertEqual(path.suffix, ".py", path)
+            self.assertTrue(path.stem.isidentifier() and path.stem.islower(), path)
+        self.assertTrue((PACKAGE / "__init__.py").is_file())
+
+    def test_characters_and_sizes(self):
+        for path, text in self.files():
+            self.assertTrue(all(sign == "\n" or " " <= sign <= "~" for sign in text), path)
+            lines = text.splitlines()
+            self.assertLessEqual(len(lines), 399, path)
+            self.assertLessEqual(max(map(len, lines)), 120, path)
+        for node in self.nodes(ast.FunctionDef):
+            self.assertLessEqual(node.end_lineno - node.lineno + 1, 40, node.name)
+
+    def test_imports(self):
+        for node in self.nodes((ast.Import, ast.ImportFrom)):
+            self.assertIsInstance(node, ast.ImportFrom)
+            self.assertEqual(node.level, 0)
+            for name in node.names:
+                self.assertIsNone(name.asname)
+                if not node.module.startswith("wordworth."):
+                    self.assertIn(name.name, LIBRARY[node.module])
+
+    def test_no_quotient_and_no_float(self):
+        for node in self.nodes((ast.Div, ast.Constant)):
+            self.assertIsInstance(node, ast.Constant)
+            self.assertNotIsInstance(node.value, (float, complex))
+
+    def test_no_name_of_a_builtin_gets_another_meaning(self):
+        for node in self.nodes((ast.Name, ast.arg, ast.FunctionDef, ast.ClassDef)):
+            if isinstance(node, ast.Name):
+                name = node.id if isinstance(node.ctx, ast.Store) else ""
+            else:
+                name = node.arg if isinstance(node, ast.arg) else node.name
+            if not name.startswith("__"):
+                self.assertFalse(hasattr(builtins, name), name)
+
+
+if __name__ == "__main__":
+    unittest.main()

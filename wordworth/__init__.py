@@ -1,0 +1,1 @@
+"""Wordworth: machines that give every word a number."""
