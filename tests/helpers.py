@@ -1,8 +1,10 @@
 """What several test files need: short ways to write tables, and a slow second opinion on them."""
 
 from fractions import Fraction
+from itertools import product
 from random import Random
 
+from wordworth.machines import Machine
 from wordworth.ratios import Ratio
 
 
@@ -44,6 +46,37 @@ def some_table(seed, height, width, zeros=0, most=9):
         return Ratio(chance.randint(-most, most), chance.randint(1, most))
 
     return tuple(tuple(number() for _ in range(width)) for _ in range(height))
+
+
+def machine(letters, start, steps, end):
+    """A machine of numbers as `ratio` takes them."""
+    return Machine(letters, row(*start), [table(*step) for step in steps], row(*end))
+
+
+def some_machine(seed, letters, size, zeros=30, most=5):
+    """A machine that looks like chance but is the same for the same seed."""
+    start, end = some_table(f"{seed} start", 2, size, zeros, most)
+    steps = [some_table(f"{seed} step {at}", size, size, zeros, most) for at in range(letters)]
+    return Machine(letters, start, steps, end)
+
+
+def some_words(letters, length):
+    """All words of at most this length, ascending."""
+    return ["".join(signs) for many in range(length + 1) for signs in product("abcd"[:letters], repeat=many)]
+
+
+def value_of(machine, word):
+    """The number of a word as a Fraction, state by state, straight from the definition."""
+    line = plain(machine.start)
+    for letter in word:
+        step = plain_table(machine.steps["abcd".index(letter)])
+        line = [sum((line[k] * step[k][j] for k in range(len(line))), Fraction(0)) for j in range(len(line))]
+    return sum((mine * its for mine, its in zip(line, plain(machine.end))), Fraction(0))
+
+
+def values_of(machine, length):
+    """The numbers of all words of at most this length."""
+    return {word: value_of(machine, word) for word in some_words(machine.letters, length)}
 
 
 def product_of(one, other):

@@ -14,6 +14,14 @@ FUNCTIONS = {
         "solve": "(rows, wanted)",
         "inverse": "(table)",
     },
+    "wordworth.lattices": {
+        "basic": "(rows)",
+        "pieces": "(basis, row)",
+    },
+    "wordworth.words": {
+        "comes_before": "(one, other)",
+        "words_of": "(letters, length)",
+    },
 }
 
 CLASSES = {
@@ -33,6 +41,9 @@ CLASSES = {
     "wordworth.ratios": {
         "Ratio": "(top, bottom=1)",
     },
+    "wordworth.machines": {
+        "Machine": "(letters, start, steps, end)",
+    },
 }
 
 METHODS = {
@@ -48,6 +59,20 @@ METHODS = {
         "over": "(self, other)",
         "text": "(self)",
     },
+    ("wordworth.machines", "Machine"): {
+        "__init__": "(self, letters, start, steps, end)",
+        "__call__": "(self, word)",
+        "number": "(self, word)",
+        "row": "(self, word)",
+        "column": "(self, word)",
+        "table": "(self, word)",
+        "picture": "(self)",
+    },
+}
+
+PROPERTIES = {
+    ("wordworth.ratios", "Ratio"): ["is_whole"],
+    ("wordworth.machines", "Machine"): ["size"],
 }
 
 
@@ -67,6 +92,13 @@ class InterfaceTest(unittest.TestCase):
             for method, arguments in methods.items():
                 with self.subTest(module=module, name=name, method=method):
                     self.assertEqual(str(inspect.signature(own[method])), arguments)
+
+    def test_properties_stand_in_the_class_itself(self):
+        for (module, name), properties in PROPERTIES.items():
+            own = vars(getattr(importlib.import_module(module), name))
+            for listed in properties:
+                with self.subTest(module=module, name=name, property=listed):
+                    self.assertIs(type(own[listed]), property)
 
 
 if __name__ == "__main__":

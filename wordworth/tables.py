@@ -1,7 +1,8 @@
 """Tables of numbers: products, spaces of rows, sums that give a wanted row."""
 
-from math import gcd, lcm
+from math import lcm
 
+from wordworth.integers import leading_place, shared_factor
 from wordworth.ratios import Ratio
 
 
@@ -65,12 +66,8 @@ def inverse(table):
     return tuple([row[size:] for row in found])
 
 
-def _along(row, columns):
-    """The sums of the products of the row with each of the columns."""
-    return tuple([_sum_of_products(row, column) for column in columns])
-
-
-def _sum_of_products(row, column):
+def sum_of_products(row, column):
+    """The sum of the products of the numbers of a row and a column, place by place."""
     # Only the finished sum is brought to lowest terms: that is the slow part.
     top, bottom = 0, 1
     for one, other in zip(row, column):
@@ -84,6 +81,11 @@ def _sum_of_products(row, column):
     return Ratio(top, bottom)
 
 
+def _along(row, columns):
+    """The sums of the products of the row with each of the columns."""
+    return tuple([sum_of_products(row, column) for column in columns])
+
+
 def _echelon(rows):
     """Rows that span the same space, each under the place of its lead: no two share one."""
     by_lead = {}
@@ -93,18 +95,10 @@ def _echelon(rows):
         # so what is taken away with it brings nothing back there.
         for lead, other in by_lead.items():
             left = _freed(left, other, lead)
-        place = _lead(left)
+        place = leading_place(left)
         if place is not None:
             by_lead[place] = left
     return by_lead
-
-
-def _lead(row):
-    """The place of the leading number, or None if the row is 0 throughout."""
-    for at, number in enumerate(row):
-        if number:
-            return at
-    return None
 
 
 def _with_lead_one(row, lead):
@@ -128,14 +122,6 @@ def _freed(row, other, lead):
         tops.append(top)
         # The bottom of a 0 must not count, and 0 has every factor that the others share.
         bottoms.append(bottom if top else 0)
-    above, below = _shared(tops), _shared(bottoms)
+    above, below = shared_factor(tops), shared_factor(bottoms)
     nothing = Ratio(0)
     return tuple([Ratio(top // above, bottom // below) if top else nothing for top, bottom in zip(tops, bottoms)])
-
-
-def _shared(integers):
-    """The greatest factor that the integers share, or 0 if all of them are 0."""
-    found = 0
-    for integer in integers:
-        found = gcd(found, integer)
-    return found
