@@ -79,6 +79,55 @@ def values_of(machine, length):
     return {word: value_of(machine, word) for word in some_words(machine.letters, length)}
 
 
+def some_term(seed, size, letters="ab", stars=True):
+    """A term of about so many leaves that looks like chance; if there are stars, they may be wrong ones."""
+    chance = seed if isinstance(seed, Random) else Random(seed)
+    if stars and chance.randrange(4) == 0:
+        return ("star", some_term(chance, size, letters, stars))
+    if size > 1:
+        first = chance.randrange(1, size)
+        one = some_term(chance, first, letters, stars)
+        return (chance.choice(["plus", "row"]), one, some_term(chance, size - first, letters, stars))
+    if chance.randrange(3):
+        return ("letter", chance.choice(letters))
+    return ("number", Ratio(chance.choice([0, 0, 1, 1, 2, -3]), chance.choice([1, 1, 2, 5])))
+
+
+def is_right(term):
+    """True if no star in the term is a wrong one."""
+    inner = term[1:] if term[0] in ("plus", "row", "star") else ()
+    return all(map(is_right, inner)) and (term[0] != "star" or term_value(inner[0], "") == 0)
+
+
+def term_value(term, word):
+    """The number of a word by a term without wrong stars, as a Fraction, straight from the definition."""
+    kind = term[0]
+    if kind == "number":
+        return Fraction(term[1].top, term[1].bottom) if word == "" else Fraction(0)
+    if kind == "letter":
+        return Fraction(word == term[1])
+    if kind == "plus":
+        return term_value(term[1], word) + term_value(term[2], word)
+    if kind == "row":
+        cuts = range(len(word) + 1)
+        return sum((term_value(term[1], word[:at]) * term_value(term[2], word[at:]) for at in cuts), Fraction(0))
+    if word == "":
+        return Fraction(1)
+    cuts = range(1, len(word) + 1)
+    return sum((term_value(term[1], word[:at]) * term_value(term, word[at:]) for at in cuts), Fraction(0))
+
+
+def size_and_depth(term):
+    """How many parts a term has, and how deep it is nested; without recursion."""
+    size, depth, waiting = 0, 0, [(term, 1)]
+    while waiting:
+        part, deep = waiting.pop()
+        size, depth = size + 1, max(depth, deep)
+        if part[0] in ("plus", "row", "star"):
+            waiting.extend((inner, deep + 1) for inner in part[1:])
+    return size, depth
+
+
 def product_of(one, other):
     """The product of two lists of rows of Fractions, straight from its definition."""
     width = len(other[0])

@@ -22,6 +22,35 @@ FUNCTIONS = {
         "comes_before": "(one, other)",
         "words_of": "(letters, length)",
     },
+    "wordworth.mixing": {
+        "plus": "(one, other)",
+        "scaled": "(machine, number)",
+        "by_places": "(one, other)",
+        "in_row": "(one, other)",
+        "star": "(machine)",
+        "mixed": "(one, other)",
+        "turned": "(machine)",
+        "ahead": "(machine, word)",
+        "after": "(machine, word)",
+        "put": "(machine, words)",
+        "single": "(letters, word, number)",
+        "constant": "(letters, number)",
+        "totals": "(machine)",
+    },
+    "wordworth.terms": {
+        "empty_number": "(term)",
+        "number_of": "(term, word)",
+        "machine_of": "(term, letters)",
+        "term_of": "(machine)",
+    },
+    "wordworth.texts": {
+        "write_sum": "(term)",
+        "read_sum": "(text)",
+    },
+    "wordworth.alike": {
+        "compare": "(one, other)",
+        "is_same_paper": "(one, other, paper)",
+    },
 }
 
 CLASSES = {
