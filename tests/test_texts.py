@@ -208,9 +208,12 @@ class Reading(TextsTest):
             self.assertEqual(write_sum(found), wanted)
 
     def test_brackets_that_are_not_needed(self):
-        for text, wanted in (("(a)", A), ("((a))", A), ("(a)*", star(A)), ("(a*)*", star(star(A))),
-                             ("(-1/2)", number("-1/2")), ("(a+b)+c", plus(plus(A, B), C)),
-                             ("(a.b).c", in_row(in_row(A, B), C)), ("(a.b)+(c)", plus(in_row(A, B), C)), ("((a+b)*)", star(plus(A, B)))):
+        cases = [
+            ("(a)", A), ("((a))", A), ("(a)*", star(A)), ("(a*)*", star(star(A))), ("(-1/2)", number("-1/2")),
+            ("(a+b)+c", plus(plus(A, B), C)), ("(a.b).c", in_row(in_row(A, B), C)),
+            ("(a.b)+(c)", plus(in_row(A, B), C)), ("((a+b)*)", star(plus(A, B))),
+        ]
+        for text, wanted in cases:
             assert_same(self, read_sum(text), wanted)
 
     def test_stars_that_are_not_allowed_are_read(self):
@@ -239,9 +242,10 @@ class Reading(TextsTest):
     def test_signs_letters_and_brackets_at_wrong_places(self):
         for text, place in (
             ("+", 0), ("*", 0), (".", 0), (")", 0), ("()", 1), ("(+a)", 1), ("(*", 1), ("(.", 1), ("a)", 1),
-            ("(a))", 3), ("a++b", 2), ("a..b", 2), ("a+.b", 2), ("a.+b", 2), ("a+*", 2), ("a.*", 2), ("a+)", 2),
-            ("(a+)", 3), ("ab", 1), ("a1", 1), ("a(b)", 1), ("(a)b", 3), ("(a)(b)", 3), ("a*b", 2), ("a*2", 2), ("a*(b)", 2),
-            ("1(a)", 1), ("12a", 2), ("1/2a", 3), ("0a", 1), ("01", 1), ("012", 1), ("0 ", 1), ("(1/2(", 4), ("*a", 0), ("a+b)", 3),
+            ("(a))", 3), ("a++b", 2), ("a..b", 2), ("a+.b", 2), ("a.+b", 2), ("a+*", 2), ("a.*", 2),
+            ("a+)", 2), ("(a+)", 3), ("ab", 1), ("a1", 1), ("a(b)", 1), ("(a)b", 3), ("(a)(b)", 3), ("a*b", 2),
+            ("a*2", 2), ("a*(b)", 2), ("1(a)", 1), ("12a", 2), ("1/2a", 3), ("0a", 1), ("01", 1), ("012", 1),
+            ("0 ", 1), ("(1/2(", 4), ("*a", 0), ("a+b)", 3),
         ):
             self.refused(text, place)
 
