@@ -14,6 +14,19 @@ LIBRARY = {
     },
     "collections": {"defaultdict", "deque"},
 }
+BUILTINS = {
+    "len", "range", "enumerate", "zip", "min", "max", "sum", "abs", "sorted", "reversed", "int", "str", "bool",
+    "list", "tuple", "dict", "isinstance", "ord", "repr", "any", "all", "divmod", "property", "ValueError",
+}
+METHODS = set(
+    "append clear copy count endswith extend find get index insert isalnum isalpha isdigit islower isspace isupper "
+    "items join keys ljust lower lstrip partition pop remove replace reverse rfind rjust rpartition rsplit rstrip "
+    "setdefault split splitlines startswith strip update upper values zfill bit_length".split()
+)
+BARRED = {
+    "type", "typing", "enum", "mro", "elements", "open", "input", "law", "register", "eval", "exec", "compile", "dir",
+    "vars", "globals", "locals", "id", "help", "exit", "quit", "os", "sys", "gc", "namedtuple", "dataclass",
+}
 
 
 class LanguageTest(unittest.TestCase):
@@ -60,6 +73,22 @@ class LanguageTest(unittest.TestCase):
                 name = node.arg if isinstance(node, ast.arg) else node.name
             if not name.startswith("__"):
                 self.assertFalse(hasattr(builtins, name), name)
+
+    def test_builtins_are_those_that_are_allowed(self):
+        for node in self.nodes(ast.Name):
+            if hasattr(builtins, node.id):
+                self.assertIn(node.id, BUILTINS)
+
+    def test_barred_names(self):
+        for node in self.nodes((ast.Name, ast.arg, ast.FunctionDef, ast.ClassDef, ast.Attribute, ast.alias)):
+            for name in ("id", "arg", "name", "attr"):
+                self.assertNotIn(getattr(node, name, ""), BARRED)
+
+    def test_methods_that_are_called_are_own_ones_or_allowed(self):
+        own = {node.name for node in self.nodes(ast.FunctionDef)}
+        for node in self.nodes(ast.Call):
+            if isinstance(node.func, ast.Attribute):
+                self.assertIn(node.func.attr, own | METHODS)
 
 
 if __name__ == "__main__":
