@@ -6,6 +6,7 @@ from random import Random
 
 from wordworth.machines import Machine
 from wordworth.ratios import Ratio
+from wordworth.tables import inverse, row_times, times
 
 
 def ratio(number):
@@ -154,6 +155,51 @@ def reduced_of(rows):
                 rows[at] = [mine - part * its for mine, its in zip(rows[at], rows[done])]
         done += 1
     return rows[:done]
+
+
+def none(letters):
+    return Machine(letters, (), ((),) * letters, ())
+
+
+def carried(one, seed):
+    """A machine with the same numbers and as many states, but other parts."""
+    for more in range(100):
+        there = some_table(f"{seed} {more}", one.size, one.size, zeros=30, most=3)
+        back = inverse(there)
+        if back is not None:
+            break
+    steps = [times(times(back, step), there) for step in one.steps]
+    end = times(back, tuple((number,) for number in one.end))
+    return Machine(one.letters, row_times(one.start, there), steps, [line[0] for line in end])
+
+
+def widened(one, seed, more=2):
+    """A machine with the same numbers and more states: some that no word reaches, or that do not count at the end."""
+    size = one.size + more
+    steps = []
+    for at, step in enumerate(one.steps):
+        extra = some_table(f"{seed} extra {at}", more, size)
+        steps.append(tuple(line + (Ratio(0),) * more for line in step) + extra)
+    end = one.end + some_table(f"{seed} end", 1, more)[0]
+    return Machine(one.letters, one.start + (Ratio(0),) * more, steps, end)
+
+
+def rank_of(lines):
+    return len(reduced_of(lines))
+
+
+def is_in(lines, line):
+    return rank_of(lines + [line]) == rank_of(lines)
+
+
+def first_ones(lines):
+    """Of a dict of words, ascending, and lists of Fractions the words whose list no earlier ones add up to."""
+    found, kept = [], []
+    for word, line in lines.items():
+        if not is_in(kept, line):
+            found.append(word)
+            kept.append(line)
+    return found
 
 
 def shown(value):

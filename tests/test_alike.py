@@ -4,50 +4,15 @@ import unittest
 from fractions import Fraction
 
 from helpers import (
-    assert_reduced, assert_same, assert_table, machine, plain, plain_table, product_of, reduced_of, row, some_machine,
-    some_table, some_words, table, value_of,
+    assert_reduced, assert_same, assert_table, carried, is_in, machine, none, plain, plain_table, product_of,
+    reduced_of, row, some_machine, some_table, some_words, table, value_of, widened,
 )
 from wordworth.alike import compare, is_same_paper
 from wordworth.errors import BadMachine
 from wordworth.machines import Machine
 from wordworth.mixing import constant, in_row, mixed, plus, scaled, single, star, turned
 from wordworth.ratios import Ratio
-from wordworth.tables import inverse, reduced, row_times, times, unit
-
-
-def none(letters):
-    return Machine(letters, (), ((),) * letters, ())
-
-
-def carried(one, seed):
-    """A machine with the same numbers and as many states, but other parts."""
-    for more in range(100):
-        there = some_table(f"{seed} {more}", one.size, one.size, zeros=30, most=3)
-        back = inverse(there)
-        if back is not None:
-            break
-    steps = [times(times(back, step), there) for step in one.steps]
-    end = times(back, tuple((number,) for number in one.end))
-    return Machine(one.letters, row_times(one.start, there), steps, [line[0] for line in end])
-
-
-def widened(one, seed, more=2):
-    """A machine with the same numbers and more states: some that no word reaches, or that do not count at the end."""
-    size = one.size + more
-    steps = []
-    for at, step in enumerate(one.steps):
-        extra = some_table(f"{seed} extra {at}", more, size)
-        steps.append(tuple(line + (Ratio(0),) * more for line in step) + extra)
-    end = one.end + some_table(f"{seed} end", 1, more)[0]
-    return Machine(one.letters, one.start + (Ratio(0),) * more, steps, end)
-
-
-def rank_of(lines):
-    return len(reduced_of(lines))
-
-
-def is_in(lines, line):
-    return rank_of(lines + [line]) == rank_of(lines)
+from wordworth.tables import reduced, times, unit
 
 
 def is_right(one, other, paper):

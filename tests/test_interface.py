@@ -51,6 +51,27 @@ FUNCTIONS = {
         "compare": "(one, other)",
         "is_same_paper": "(one, other, paper)",
     },
+    "wordworth.least": {
+        "row_words": "(machine)",
+        "column_words": "(machine)",
+        "least": "(machine)",
+        "is_corner": "(machine, rows, columns)",
+        "carry": "(one, other)",
+        "is_carry": "(one, other, table)",
+    },
+    "wordworth.company": {
+        "nothing": "(machine, mix)",
+        "basis_words": "(machine)",
+        "coordinates": "(machine, word)",
+        "product": "(machine, one, other)",
+        "by_counts": "(machine)",
+        "idle": "(machine)",
+    },
+    "wordworth.wholes": {
+        "whole": "(machine)",
+        "is_whole_paper": "(machine, words)",
+        "whole_machine": "(machine)",
+    },
 }
 
 CLASSES = {
