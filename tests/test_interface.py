@@ -1,4 +1,4 @@
-"""The names, arguments and places of the interface, as far as it has landed."""
+"""The names, arguments and places of the interface."""
 
 import importlib
 import inspect
@@ -72,6 +72,12 @@ FUNCTIONS = {
         "is_whole_paper": "(machine, words)",
         "whole_machine": "(machine)",
     },
+    "wordworth.rests": {
+        "rests": "(machine, modulus)",
+    },
+    "wordworth.finite": {
+        "finite": "(machine)",
+    },
 }
 
 CLASSES = {
@@ -93,6 +99,12 @@ CLASSES = {
     },
     "wordworth.machines": {
         "Machine": "(letters, start, steps, end)",
+    },
+    "wordworth.learner": {
+        "Learner": "(letters)",
+    },
+    "wordworth.house": {
+        "House": "(letters)",
     },
 }
 
@@ -118,11 +130,35 @@ METHODS = {
         "table": "(self, word)",
         "picture": "(self)",
     },
+    ("wordworth.learner", "Learner"): {
+        "__init__": "(self, letters)",
+        "tell": "(self, number)",
+        "agree": "(self)",
+        "refuse": "(self, word)",
+    },
+    ("wordworth.house", "House"): {
+        "__init__": "(self, letters)",
+        "put": "(self, name, machine)",
+        "names": "(self)",
+        "machine": "(self, name)",
+        "exchange": "(self, name, machine, paper)",
+        "amend": "(self, name, word, number)",
+        "remove": "(self, name)",
+        "begin": "(self, stream, name)",
+        "finish": "(self, stream)",
+        "feed": "(self, stream, word)",
+        "back": "(self, stream, count)",
+        "word": "(self, stream)",
+        "number": "(self, stream)",
+        "streams": "(self)",
+        "total": "(self, name, length)",
+    },
 }
 
 PROPERTIES = {
     ("wordworth.ratios", "Ratio"): ["is_whole"],
     ("wordworth.machines", "Machine"): ["size"],
+    ("wordworth.learner", "Learner"): ["wish"],
 }
 
 

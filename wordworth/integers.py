@@ -8,6 +8,9 @@ from math import gcd, lcm
 
 from wordworth.ratios import Ratio
 
+# Bottoms of up to so many bits are left as they are.
+SHORT = 2000
+
 
 def common_bottom(row):
     """The least bottom that all numbers of the row can be given."""
@@ -54,6 +57,43 @@ def whole_row_times(row, square):
         if number:
             sums = [done + number * more for done, more in zip(sums, line)]
     return sums
+
+
+def whole_column_times(column, square):
+    """The square table of integers times the column, as a list."""
+    return [whole_product(line, column) for line in square]
+
+
+def row_led(tops, bottom, step):
+    """The row of the tops above the bottom times the step, as tops above the least bottom.
+
+    The step is a pair as table_above makes it.
+    """
+    lines, below = step
+    return shortened(whole_row_times(tops, lines), bottom * below)
+
+
+def row_through(tops, bottom, steps, lead):
+    """The row of the tops above the bottom led through the steps one by one, as tops above some bottom.
+
+    The steps are pairs as table_above makes them; `lead(tops, lines)` leads through the lines of one.
+    """
+    longest = SHORT
+    for lines, below in steps:
+        tops, bottom = lead(tops, lines), bottom * below
+        # Often the numbers of a row are short although their steps have long
+        # bottoms. To look for it takes long, so that must not be done at each step.
+        if bottom.bit_length() > longest:
+            tops, bottom = shortened(tops, bottom)
+            longest = max(SHORT, 2 * bottom.bit_length())
+    return tops, bottom
+
+
+def shortened(tops, bottom):
+    """The same row as tops above the least bottom."""
+    # With the bottom ahead, what is compared with long tops is short soon.
+    shared = shared_factor([bottom] + tops)
+    return ([top // shared for top in tops], bottom // shared) if shared > 1 else (tops, bottom)
 
 
 def shared_factor(row):

@@ -1,7 +1,9 @@
 """Machines, which give every word over an alphabet a number."""
 
 from wordworth.errors import BadMachine
-from wordworth.integers import ratios, row_above, table_above, whole_product, whole_row_times
+from wordworth.integers import (
+    ratios, row_above, row_through, table_above, whole_column_times, whole_product, whole_row_times,
+)
 from wordworth.ratios import Ratio
 from wordworth.words import alphabet, check_word
 
@@ -42,10 +44,8 @@ class Machine:
         """The table of the word times the end, as a tuple."""
         check_word(self.letters, word)
         tops, bottom = row_above(self.end)
-        for letter in reversed(word):
-            rows, below = self._step_above(letter)
-            tops = [whole_product(row, tops) for row in rows]
-            bottom = bottom * below
+        steps = [self._step_above(letter) for letter in reversed(word)]
+        tops, bottom = row_through(tops, bottom, steps, whole_column_times)
         return ratios(tops, bottom)
 
     def table(self, word):
@@ -74,11 +74,8 @@ class Machine:
         """The row of the word as integers above one bottom."""
         check_word(self.letters, word)
         tops, bottom = row_above(self.start)
-        for letter in word:
-            rows, below = self._step_above(letter)
-            tops = whole_row_times(tops, rows)
-            bottom = bottom * below
-        return tops, bottom
+        steps = [self._step_above(letter) for letter in word]
+        return row_through(tops, bottom, steps, whole_row_times)
 
     def _step_above(self, letter):
         at = alphabet(self.letters).index(letter)

@@ -3,7 +3,7 @@
 from math import lcm
 
 from wordworth.cores import sight
-from wordworth.integers import row_above, shared_factor, table_above, whole_row_times
+from wordworth.integers import row_above, row_led, table_above
 from wordworth.lattices import basic, pieces
 from wordworth.machines import Machine
 from wordworth.ratios import Ratio
@@ -23,17 +23,17 @@ def is_whole_paper(machine, words):
     seen = sight(machine)
     if "" not in words:
         return seen.size == 0 and len(words) == 0
-    steps = [table_above(step) for step in seen.steps]
     rows = []
     # Short words first: a number that is not whole is found there with the least work.
     for word in sorted({word: True for word in words}, key=len):
-        tops, bottom = _row_of(seen, steps, word)
+        row = seen.row(word)
         # The row has the numbers of the word followed by others: a right
         # paper shows that these are whole, too.
-        if bottom != 1:
+        if not all([number.is_whole for number in row]):
             return False
-        rows.append(tops)
+        rows.append([number.top for number in row])
     basis = basic(rows)
+    steps = [table_above(step) for step in seen.steps]
     # What holds for the rows of the basis holds for all rows of the lattice.
     return all([all([_pieces_led(basis, row, step) is not None for step in steps]) for row in basis])
 
@@ -71,7 +71,7 @@ def _explored(seen):
             if not _is_in(basis, below, tops, bottom):
                 basis, below = _taken_in(basis, below, tops, bottom)
                 words.append(word)
-                led = [_led(tops, bottom, step) for step in steps]
+                led = [row_led(tops, bottom, step) for step in steps]
                 longer.extend([(word + letter, row) for letter, row in zip(alphabet(seen.letters), led)])
         waiting = longer
     return None, words, basis
@@ -92,28 +92,9 @@ def _taken_in(basis, below, tops, bottom):
     return basic(rows + [[top * (common // bottom) for top in tops]]), common
 
 
-def _row_of(seen, steps, word):
-    """The row of the word, as tops above the least bottom."""
-    tops, bottom = row_above(seen.start)
-    known = alphabet(seen.letters)
-    for letter in word:
-        tops, bottom = _led(tops, bottom, steps[known.index(letter)])
-    return tops, bottom
-
-
-def _led(tops, bottom, step):
-    """The row times the step, as tops above the least bottom."""
-    lines, below = step
-    led = whole_row_times(tops, lines)
-    below = bottom * below
-    # With the bottom ahead, what is compared with the long tops soon is short.
-    shared = shared_factor([below] + led)
-    return ([top // shared for top in led], below // shared) if shared > 1 else (led, below)
-
-
 def _pieces_led(basis, row, step):
     """The integers by which the basis adds up to its row times the step, or None."""
-    tops, bottom = _led(row, 1, step)
+    tops, bottom = row_led(row, 1, step)
     return pieces(basis, tops) if bottom == 1 else None
 
 
