@@ -90,6 +90,47 @@ class LanguageTest(unittest.TestCase):
             if isinstance(node.func, ast.Attribute):
                 self.assertIn(node.func.attr, own | METHODS)
 
+    def test_behind_a_star_stands_a_name(self):
+        for node in self.nodes(ast.Starred):
+            self.assertIsInstance(node.value, (ast.Name, ast.Attribute))
+        for node in self.nodes(ast.keyword):
+            self.assertIsNotNone(node.arg)
+
+    def test_the_name_of_one_underscore_is_never_read(self):
+        for node in self.nodes(ast.Name):
+            if node.id == "_":
+                self.assertIsInstance(node.ctx, ast.Store)
+
+    def test_statements_and_expressions_that_are_not_used(self):
+        barred = (
+            ast.GeneratorExp, ast.AsyncFunctionDef, ast.Global, ast.Try, ast.With, ast.Yield, ast.AnnAssign,
+            ast.Pow, ast.MatMult, ast.JoinedStr,
+        )
+        for path, text in self.files():
+            for node in ast.walk(ast.parse(text)):
+                # The text of a number is the one f-string.
+                if not (isinstance(node, ast.JoinedStr) and path.stem == "ratios"):
+                    self.assertNotIsInstance(node, barred, path)
+
+    def test_lambdas_with_the_same_parameters_stand_on_lines_of_their_own(self):
+        for path, text in self.files():
+            places = [
+                (node.lineno, tuple(one.arg for one in node.args.args))
+                for node in ast.walk(ast.parse(text)) if isinstance(node, ast.Lambda)
+            ]
+            self.assertEqual(len(places), len(set(places)), path)
+
+    def test_no_local_name_is_that_of_an_import_or_a_class(self):
+        for path, text in self.files():
+            tree = ast.parse(text)
+            known = {name.name for node in ast.walk(tree) if isinstance(node, ast.ImportFrom) for name in node.names}
+            known |= {node.name for node in ast.walk(tree) if isinstance(node, ast.ClassDef)}
+            for node in ast.walk(tree):
+                if isinstance(node, ast.Name) and isinstance(node.ctx, ast.Store):
+                    self.assertNotIn(node.id, known, path)
+                if isinstance(node, ast.arg):
+                    self.assertNotIn(node.arg, known, path)
+
 
 if __name__ == "__main__":
     unittest.main()

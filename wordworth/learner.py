@@ -139,7 +139,11 @@ def _first_misfit(machine, told):
 
 
 def _misfit(machine, told, follow, left):
-    """A word that has another number than it has been told, or None, if there is anything left of the difference."""
+    """A word that has another number than it has been told, or None.
+
+    `follow` leads a row through a step, and `left` is what then is left of a
+    difference of numbers: 0 where none is seen.
+    """
     known = alphabet(machine.letters)
     steps = [table_above(step) for step in machine.steps]
     ends, below = row_above(machine.end)
